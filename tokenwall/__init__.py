@@ -1,0 +1,1 @@
+"""Tokenwall: nets of tokens, and what can never come of them."""
