@@ -150,6 +150,45 @@ class Language(unittest.TestCase):
             if isinstance(node, ast.Call) and isinstance(node.func, ast.Attribute):
                 self.assertIn(node.func.attr, known, (name, node.lineno))
 
+    def test_no_name_is_a_method_and_a_value(self):
+        values = {node.attr for name, node in each_node()
+                  if isinstance(node, ast.Attribute) and isinstance(node.ctx, ast.Store)}
+        self.assertEqual(values & (own_methods() | set(METHODS)), set())
+
+    def test_imports_come_from_the_file_that_defines_them_and_don_t_go_round(self):
+        drawn = {}
+        for name, tree in trees():
+            rows = [node for node in tree.body if isinstance(node, ast.ImportFrom)]
+            drawn[name] = {node.module.split(".")[1] + ".py" for node in rows}
+            for node in rows:
+                source = dict(trees())[node.module.split(".")[1] + ".py"]
+                defined = {each.name for each in source.body if isinstance(each, (ast.FunctionDef, ast.ClassDef))}
+                self.assertLessEqual({alias.name for alias in node.names}, defined, name)
+        while drawn:
+            free = [name for name in drawn if not drawn[name] & set(drawn)]
+            self.assertNotEqual(free, [], drawn)
+            for name in free:
+                drawn.pop(name)
+
+    def test_every_import_is_used(self):
+        for name, tree in trees():
+            used = {node.id for node in ast.walk(tree) if isinstance(node, ast.Name)}
+            for node in tree.body:
+                if isinstance(node, ast.ImportFrom):
+                    self.assertLessEqual({alias.name for alias in node.names}, used, name)
+
+    def test_no_local_is_called_like_a_class_or_an_import_of_its_file(self):
+        for name, tree in trees():
+            taken = {node.name for node in tree.body if isinstance(node, ast.ClassDef)}
+            for node in tree.body:
+                if isinstance(node, ast.ImportFrom):
+                    taken.update(alias.name for alias in node.names)
+            for node in ast.walk(tree):
+                if isinstance(node, ast.arg):
+                    self.assertNotIn(node.arg, taken, name)
+                if isinstance(node, ast.Name) and isinstance(node.ctx, ast.Store):
+                    self.assertNotIn(node.id, taken, name)
+
     def test_is_stands_beside_none_true_and_false(self):
         for name, node in each_node():
             if isinstance(node, ast.Compare):

@@ -2,7 +2,7 @@ import copy
 import itertools
 import unittest
 
-from samples import BARE, FULL, GREAT, PAIR, odd_things, some_nets
+from samples import BARE, FULL, GREAT, PAIR, odd_things, plain_sill, some_nets
 from tokenwall.errors import NoHoard, NoMove, NoNet
 from tokenwall.nets import behind, can, over
 from tokenwall.sills import least_before, sill
@@ -20,20 +20,6 @@ def comes_over(net, start, goal, steps):
         layer = {behind(net, hoard, [move])
                  for hoard in layer for move in range(len(net[1])) if can(net, hoard, move)}
     return any(over(hoard, goal) for hoard in layer)
-
-
-def plain_sill(net, goal):
-    """The sill by the plainest way: all that lies one move before, until nothing new comes of it."""
-    least = [goal]
-    while True:
-        found = set(least)
-        for hoard in least:
-            for takes, gives in net[1]:
-                found.add(tuple(a + max(0, c - b) for a, b, c in zip(takes, gives, hoard)))
-        lower = sorted(one for one in found if not any(over(one, other) and one != other for other in found))
-        if lower == sorted(least):
-            return lower
-        least = lower
 
 
 class LeastBefore(unittest.TestCase):
@@ -166,6 +152,12 @@ class Sill(unittest.TestCase):
         for net in some_nets(6, 60, 2, 4, 9):
             goal = (25, 14)[:net[0]]
             self.assertEqual(sill(net, goal), plain_sill(net, goal), (net, goal))
+
+    def test_it_is_what_the_plain_way_tells_of_sills_with_hundreds_of_hoards(self):
+        net = (4, (((1, 0, 0, 0), (0, 1, 0, 0)), ((0, 1, 0, 0), (0, 0, 1, 0)), ((0, 0, 2, 0), (0, 1, 0, 1))))
+        told = sill(net, (0, 0, 6, 4))
+        self.assertGreater(len(told), 200)
+        self.assertEqual(told, plain_sill(net, (0, 0, 6, 4)))
 
     def test_all_hoards_over_it_come_over_the_goal_and_no_others(self):
         for net in some_nets(7, 60, 2, 3, 2):

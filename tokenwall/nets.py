@@ -3,7 +3,7 @@
 A net is a tuple (places, moves), a move a tuple (takes, gives), a hoard a tuple of one number for each place.
 """
 
-from tokenwall.errors import NoHoard, NoMove, NoNet, Stuck
+from tokenwall.errors import NoHoard, NoMove, NoNet, NoPlace, Stuck
 
 MOST_PLACES = 6
 MOST_MOVES = 10
@@ -77,6 +77,18 @@ def need_run(net, thing):
         need_move(net, move)
 
 
+def need_place(net, thing):
+    if not is_whole(thing) or thing < 0 or thing >= net[0]:
+        raise NoPlace("this is no place of the net")
+
+
+def need_places(net, thing):
+    if not isinstance(thing, list):
+        raise NoPlace("places are told as a list")
+    for place in thing:
+        need_place(net, place)
+
+
 def over(one, other):
     for number, least in zip(one, other):
         if number < least:
@@ -88,6 +100,11 @@ def can(net, hoard, move):
     need_hoard(net, hoard)
     need_move(net, move)
     return over(hoard, net[1][move][0])
+
+
+# How many tokens more a move leaves at each place, below nought: how many less.
+def changes(move):
+    return tuple([give - take for take, give in zip(move[0], move[1])])
 
 
 def after_move(hoard, move):

@@ -6,11 +6,11 @@ ring of strides, made as often as one likes; a place that it heaps tokens up at 
 Without rings a very great goal would be come down from by a few tokens at a time.
 """
 
-from tokenwall.nets import checked, need_hoard, need_move, over
+from tokenwall.nets import changes, checked, need_hoard, need_move, over
 
 
 def stride_of(move):
-    return (move[0], tuple([give - take for take, give in zip(move[0], move[1])]))
+    return (move[0], changes(move))
 
 
 def number_before(need, gain, number):
@@ -40,18 +40,86 @@ def ring_stride(path, low, high):
     return (needs, gains)
 
 
-def over_any(hoard, others):
-    for other in others:
-        if over(hoard, other):
-            return True
-    return False
+# Hoards, each with a mark of its own: a number of one bit. For each place and each number of tokens there, the marks of
+# all hoards with that number are kept as one sum: so a hoard is weighed against all of them at once, not one by one.
+class Pile:
+    def __init__(self, places):
+        self.marks = {}
+        self.marked = {}
+        self.free = []
+        self.fresh = 1
+        self.sums = [{} for place in range(places)]
+
+    def has(self, hoard):
+        return hoard in self.marks
+
+    def take_mark(self):
+        if len(self.free) > 0:
+            return self.free.pop()
+        mark = self.fresh
+        self.fresh = mark + mark
+        return mark
+
+    def add(self, hoard):
+        mark = self.take_mark()
+        self.marks[hoard] = mark
+        self.marked[mark] = hoard
+        for number, by_number in zip(hoard, self.sums):
+            by_number[number] = by_number.get(number, 0) | mark
+
+    def remove(self, hoard):
+        mark = self.marks.pop(hoard)
+        self.marked.pop(mark)
+        self.free.append(mark)
+        for number, by_number in zip(hoard, self.sums):
+            by_number[number] ^= mark
+            if by_number[number] == 0:
+                by_number.pop(number)
+
+    # The sum of the marks of those that the hoard is over.
+    def below(self, hoard):
+        found = -1
+        for most, by_number in zip(hoard, self.sums):
+            fitting = 0
+            for number, marks in by_number.items():
+                if number <= most:
+                    fitting |= marks
+            found &= fitting
+        return found
+
+    # The sum of the marks of those that are over the hoard.
+    def above(self, hoard):
+        found = -1
+        for least, by_number in zip(hoard, self.sums):
+            fitting = 0
+            for number, marks in by_number.items():
+                if number >= least:
+                    fitting |= marks
+            found &= fitting
+        return found
+
+    def one_of(self, found):
+        return self.marked[found & -found]
+
+    def hoards_of(self, found):
+        hoards = []
+        while found != 0:
+            hoard = self.one_of(found)
+            hoards.append(hoard)
+            found ^= self.marks[hoard]
+        return hoards
+
+    def rising(self):
+        return sorted(self.marks)
 
 
 # least: the least hoards found yet; waiting: those of them that no stride was taken back from yet; seen: whatever was
 # found, so that nothing is weighed twice; ways: for each found hoard the stride and the hoard that it leads over.
 class Search:
-    def __init__(self, goal):
-        self.least = {goal: True}
+    def __init__(self, net, goal):
+        self.strides = [stride_of(move) for move in net[1]]
+        self.least = Pile(net[0])
+        self.least.add(goal)
         self.waiting = {goal: True}
         self.seen = {goal: True}
         self.ways = {goal: (None, None)}
@@ -84,13 +152,13 @@ class Search:
         return way
 
     def keep(self, hoard, way):
-        if over_any(hoard, self.least):
+        if self.leads_from(hoard):
             return
-        for other in list(self.least):
-            if over(other, hoard):
-                self.least.pop(other)
-                self.waiting.pop(other, None)
-        self.least[hoard] = True
+        above = self.least.hoards_of(self.least.above(hoard))
+        for other in above:
+            self.least.remove(other)
+            self.waiting.pop(other, None)
+        self.least.add(hoard)
         self.waiting[hoard] = True
         self.ways[hoard] = way
 
@@ -102,15 +170,32 @@ class Search:
         way = self.way_back(stride, target)
         self.keep(before(way[0], way[1]), way)
 
+    # Whether the hoard is over one that a run over the goal was found from.
+    def leads_from(self, hoard):
+        return self.least.below(hoard) != 0
+
+    def is_done(self):
+        return len(self.waiting) == 0
+
+    def step(self):
+        hoard = self.take_waiting()
+        for stride in self.strides:
+            # Once something below it is found, that has its turn in its place.
+            if self.least.has(hoard):
+                self.look_before(stride, hoard)
+
+    def go_on(self, steps):
+        for turn in range(steps):
+            if self.is_done():
+                return
+            self.step()
+
+    def finished(self):
+        while not self.is_done():
+            self.step()
+        return self.least.rising()
+
 
 def sill(net, goal):
     need_hoard(net, goal)
-    strides = [stride_of(move) for move in net[1]]
-    search = Search(goal)
-    while len(search.waiting) > 0:
-        hoard = search.take_waiting()
-        for stride in strides:
-            # Once something below it is found, that has its turn in its place.
-            if hoard in search.least:
-                search.look_before(stride, hoard)
-    return sorted(search.least)
+    return Search(net, goal).finished()
