@@ -35,7 +35,7 @@ def read_move(text):
     return tuple([read_row(part) for part in text.split(" > ")])
 
 
-# What was split is told by what it was split at, so another writing of the same net can't come through.
+# Nothing is lost by splitting: put together again, what was read is the text, so no other writing comes through.
 def read(text):
     if not isinstance(text, str):
         raise NoText("this is no text")
